@@ -1,0 +1,1 @@
+"""Homereads: finding where short texts come from."""
