@@ -4,8 +4,8 @@ from homereads.errors import InvalidLine
 from homereads.letters import LETTERS
 
 MARKS = "0123456789ABCDEFGHIJKLMNOPQRSTUVWXYZabcde"
+NAME_CHARACTERS = "0123456789ABCDEFGHIJKLMNOPQRSTUVWXYZabcdefghijklmnopqrstuvwxyz"
 
-_NAME_CHARACTERS = "0123456789ABCDEFGHIJKLMNOPQRSTUVWXYZabcdefghijklmnopqrstuvwxyz"
 _LONGEST_NAME = 40
 _LONGEST_REFERENCE = 100000
 _LONGEST_READ = 1000
@@ -73,7 +73,7 @@ def _name_line(lines, at, sign):
     if not line.startswith(sign):
         raise InvalidLine(at, 0)
     # The sign stands ahead of the name, so the column of its 41st character is 41.
-    column = min(_first_other(line, 1, _NAME_CHARACTERS), 1 + _LONGEST_NAME)
+    column = min(_first_other(line, 1, NAME_CHARACTERS), 1 + _LONGEST_NAME)
     if column < len(line) or len(line) == 1:
         raise InvalidLine(at, column)
     return line[1:]

@@ -5,7 +5,7 @@ import itertools
 import unittest
 
 from homereads import letters
-from homereads.letters import agree, symbol, turned
+from homereads.letters import agree, symbol, symbols_of, text_of, turned
 
 
 class AgreeTest(unittest.TestCase):
@@ -19,6 +19,11 @@ class AgreeTest(unittest.TestCase):
 class SymbolTest(unittest.TestCase):
     def test_each_letter(self):
         self.assertEqual([symbol(letter) for letter in "ACGTN"], [2, 3, 4, 5, 6])
+
+    def test_texts(self):
+        for text, symbols in [("", []), ("ACGTN", [2, 3, 4, 5, 6]), ("NNA", [6, 6, 2])]:
+            self.assertEqual(symbols_of(text), symbols)
+            self.assertEqual(text_of(symbols), text)
 
 
 class TurnedTest(unittest.TestCase):
