@@ -1,0 +1,91 @@
+"""The tables of point 28, worked out in a band: they tell best alignments, and they are papers.
+
+At a cell, the rest of the read and the rest of the text ahead of the end differ by some letters, and each way from
+there to the end leaves out at least so many. The band holds the cells at which they differ by at most `width`. All
+others stand as low as they may: what such a cell leads to at the end is at least the cost of leaving out `width + 1`
+letters. If the tables show less than that, they show the cost of an alignment that lies in the band.
+"""
+
+from homereads.letters import agree
+
+
+class Band:
+    """The three tables (P, Q, R) of a read at an end of a text, worked out in a band of this width.
+
+    Of each row, the numbers in the band are kept, and one more on each side. A cell has the same index in them as the
+    cell `(i - 1, j - 1)` has in the row above.
+    """
+
+    def __init__(self, read, text, end, costs, width):
+        _, start, _ = costs
+        self._end = end
+        self._lowest = (0, start, start)
+        self._size = 2 * width + 3
+        self._first = end - len(read) - width - 1
+        self._rows = [tuple([[number] * self._size for number in self._lowest])]
+        for i, letter in enumerate(read, start=1):
+            first = self._first + i
+            behind = min(end, first + self._size - 2)
+            others = text[max(0, first):max(0, behind)]
+            self._rows.append(_next_row(self._rows[-1], letter, others, costs, first))
+
+    def cost(self):
+        """Return what the tables show."""
+        return min(self.cell(len(self._rows) - 1, self._end))
+
+    def cell(self, i, j):
+        """Return the tuple of the numbers of a cell in the band."""
+        at = j - i - self._first
+        return tuple([numbers[at] for numbers in self._rows[i]])
+
+    def table(self, which):
+        """Return one of the whole tables: 0 is P, 1 is Q, and 2 is R."""
+        return [self._whole_row(i, which) for i in range(len(self._rows))]
+
+    def _whole_row(self, i, which):
+        """Return a row of one of the whole tables."""
+        first = self._first + i
+        low = max(0, first)
+        behind = max(low, min(self._end + 1, first + self._size))
+        whole = [self._lowest[which]] * (self._end + 1)
+        whole[low:behind] = self._rows[i][which][low - first:behind - first]
+        return whole
+
+
+def exact_band(read, text, end, costs):
+    """Return a band whose tables show the least cost of an alignment."""
+    _, start, each = costs
+    width = 0
+    band = Band(read, text, end, costs, width)
+    # No best alignment costs more than to leave out the whole read.
+    while start + (width + 1) * each <= band.cost() < start + len(read) * each:
+        width = 2 * width + 1
+        band = Band(read, text, end, costs, width)
+    return band
+
+
+def _next_row(above, letter, others, costs, first):
+    """Return the row below the given one, whose first number is that of the position `first`.
+
+    The letter is that of the read, the others are those of the text at the positions in the band.
+    """
+    replace, start, each = costs
+    new = start + each
+    pairs_above, reads_above, texts_above = above
+    pairs = [0] * len(pairs_above)
+    reads = [start] * len(pairs_above)
+    texts = [start] * len(pairs_above)
+    zero = -first
+    if 0 < zero < len(pairs) - 1:
+        # Ahead of the text, only Q bounds something. The two others get numbers that make no difference beside it.
+        reads[zero] = each + reads_above[zero + 1]
+        pairs[zero] = reads[zero]
+        texts[zero] = reads[zero] + start
+    for at, other in enumerate(others, start=max(0, zero) + 1):
+        ahead = min(pairs_above[at], reads_above[at], texts_above[at])
+        pairs[at] = ahead if agree(letter, other) else ahead + replace
+        up = at + 1
+        reads[at] = min(new + pairs_above[up], new + texts_above[up], each + reads_above[up])
+        left = at - 1
+        texts[at] = min(new + pairs[left], new + reads[left], each + texts[left])
+    return pairs, reads, texts
