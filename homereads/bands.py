@@ -1,9 +1,10 @@
 """The tables of point 28, worked out in a band: they tell best alignments, and they are papers.
 
-At a cell, the rest of the read and the rest of the text ahead of the end differ by some letters, and each way from
-there to the end leaves out at least so many. The band holds the cells at which they differ by at most `width`. All
-others stand as low as they may: what such a cell leads to at the end is at least the cost of leaving out `width + 1`
-letters. If the tables show less than that, they show the cost of an alignment that lies in the band.
+From a cell to the end, a path leaves out at least as many letters as the rest of the read and the rest of the text
+differ in length. The band holds the cells at which they differ by at most `width`. All other cells stand as low as any
+cell may: 0 in P, and what a run costs without its letters in Q and R. What comes from there to the end costs at least
+as much as to leave out `width + 1` letters. So if the tables show less than that, an alignment in the band costs what
+they show.
 """
 
 from homereads.letters import agree
@@ -12,8 +13,8 @@ from homereads.letters import agree
 class Band:
     """The three tables (P, Q, R) of a read at an end of a text, worked out in a band of this width.
 
-    Of each row, the numbers in the band are kept, and one more on each side. A cell has the same index in them as the
-    cell `(i - 1, j - 1)` has in the row above.
+    Of each row, only the numbers in the band are kept, and one more on each side, so that each cell of the band has
+    neighbours. A cell has the same index in them as the cell `(i - 1, j - 1)` has in the row above.
     """
 
     def __init__(self, read, text, end, costs, width):
@@ -53,11 +54,11 @@ class Band:
 
 
 def exact_band(read, text, end, costs):
-    """Return a band whose tables show the least cost of an alignment."""
+    """Return a band whose tables show the cost of a best alignment of a read at an end of a text."""
     _, start, each = costs
     width = 0
     band = Band(read, text, end, costs, width)
-    # No best alignment costs more than to leave out the whole read.
+    # No best alignment costs more than to leave out the whole read: a band that shows so much is wide enough, too.
     while start + (width + 1) * each <= band.cost() < start + len(read) * each:
         width = 2 * width + 1
         band = Band(read, text, end, costs, width)
@@ -65,9 +66,9 @@ def exact_band(read, text, end, costs):
 
 
 def _next_row(above, letter, others, costs, first):
-    """Return the row below the given one, whose first number is that of the position `first`.
+    """Return the row below the given one, the first number of which stands for the position `first`.
 
-    The letter is that of the read, the others are those of the text at the positions in the band.
+    The letter is that of the read, the others are those of the text that it may be paired with in the band.
     """
     replace, start, each = costs
     new = start + each
@@ -77,7 +78,7 @@ def _next_row(above, letter, others, costs, first):
     texts = [start] * len(pairs_above)
     zero = -first
     if 0 < zero < len(pairs) - 1:
-        # Ahead of the text, only Q bounds something. The two others get numbers that make no difference beside it.
+        # At the position 0, only Q bounds something. P and R get numbers that make no difference beside it.
         reads[zero] = each + reads_above[zero + 1]
         pairs[zero] = reads[zero]
         texts[zero] = reads[zero] + start

@@ -6,6 +6,13 @@ import itertools
 from plain import random_text
 
 BLOCKS_AND_SAMPLES = [(64, 16), (1, 1), (3, 2), (1000, 1000), (2, 7)]
+# The usual costs, costs of 0, a large `start` and a small `each`, the other way round, and a large `replace`.
+COSTS = [
+    (4, 6, 1), (1, 1, 1), (0, 0, 0), (1, 0, 0), (0, 1, 0), (0, 0, 1), (1, 1, 0), (1, 0, 1), (0, 1, 1), (7, 0, 0),
+    (7, 5, 0), (5, 100, 1), (5, 100, 0), (100, 100, 1), (5, 1, 100), (5, 0, 100), (1, 100, 100), (100, 0, 1),
+    (100, 1, 0), (100, 3, 2), (3, 5, 7), (10, 20, 3), (100, 100, 100), (120, 130, 110),
+]
+
 OTHER = {"A": "T", "C": "G", "G": "C", "T": "A", "N": "N"}
 
 
@@ -28,6 +35,19 @@ def drawn_reads(source, references):
         reads += [read, read[:at] + source.choice("ACGTN") + read[at:], plain_turned(read)]
         reads.append(random_text(source, source.randint(1, 12), source.choice(["AC", "ACGT", "ACGTN"])))
     return reads
+
+
+def drawn_case(source, longest):
+    """A read, a text and an end; often, the read comes from the text with some letters put in or left out."""
+    letters = source.choice(["ACGT", "ACGT", "ACGTN", "AC", "A", "AN"])
+    read = random_text(source, source.randint(1, longest), letters)
+    text = random_text(source, source.randrange(longest), letters)
+    if source.randrange(3) > 0:
+        first, second = sorted(source.choices(range(len(read) + 1), k=2))
+        between = random_text(source, source.randrange(5), letters)
+        behind = random_text(source, source.randrange(3), letters)
+        text += source.choice([read[:first] + between + read[first:], read[:first] + read[second:], read]) + behind
+    return read, text, source.choice([len(text), source.randint(0, len(text)), max(0, len(text) - 2)])
 
 
 def plain_distance(read, text):

@@ -7,27 +7,9 @@ import unittest
 from homereads.paths import best_alignment, fits, path_cost
 
 from plain import random_text
-from plain_changes import distances_by_columns, every_path, least_cost, least_of_every_path, plain_cost
-
-# The usual costs, costs of 0, a large `start` and a small `each`, the other way round, and a large `replace`.
-COSTS = [
-    (4, 6, 1), (1, 1, 1), (0, 0, 0), (1, 0, 0), (0, 1, 0), (0, 0, 1), (1, 1, 0), (1, 0, 1), (0, 1, 1), (7, 0, 0), (7, 5, 0),
-    (5, 100, 1), (5, 100, 0), (100, 100, 1), (5, 1, 100), (5, 0, 100), (1, 100, 100), (100, 0, 1), (100, 1, 0), (100, 3, 2),
-    (3, 5, 7), (10, 20, 3), (100, 100, 100), (120, 130, 110),
-]
-
-
-def drawn_case(source, longest):
-    """A read, a text and an end; often, the read comes from the text with some letters put in or left out."""
-    letters = source.choice(["ACGT", "ACGT", "ACGTN", "AC", "A", "AN"])
-    read = random_text(source, source.randint(1, longest), letters)
-    text = random_text(source, source.randrange(longest), letters)
-    if source.randrange(3) > 0:
-        first, second = sorted(source.choices(range(len(read) + 1), k=2))
-        between = random_text(source, source.randrange(5), letters)
-        behind = random_text(source, source.randrange(3), letters)
-        text += source.choice([read[:first] + between + read[first:], read[:first] + read[second:], read]) + behind
-    return read, text, source.choice([len(text), source.randint(0, len(text)), max(0, len(text) - 2)])
+from plain_changes import (
+    COSTS, distances_by_columns, drawn_case, every_path, least_cost, least_of_every_path, plain_cost,
+)
 
 
 class BestAlignmentTest(unittest.TestCase):
@@ -93,7 +75,8 @@ class BestAlignmentTest(unittest.TestCase):
                       for read in reads for text in texts for begin in range(len(text))})
         for costs in COSTS:
             for read, text in itertools.product(reads, texts):
-                least = min(plain_cost(path, costs) for begin in range(len(text) + 1) for path in paths[read, text[begin:]])
+                least = min(plain_cost(path, costs)
+                            for begin in range(len(text) + 1) for path in paths[read, text[begin:]])
                 self.check(read, text, len(text), costs, least)
 
     def test_drawn(self):
@@ -157,7 +140,8 @@ class BestAlignmentTest(unittest.TestCase):
         self.assertEqual(len(read), 1000)
         for costs, least in [((100, 6, 1), 63), ((100, 0, 1), 51), ((100, 100, 100), 5300)]:
             begin, path, cost = best_alignment(read, text, 99049, costs)
-            self.assertEqual((begin, cost, path.count("="), path.count("I"), path.count("D")), (98000, least, 999, 1, 50))
+            self.assertEqual((begin, cost), (98000, least))
+            self.assertEqual([path.count(step) for step in "=XID"], [999, 0, 1, 50])
             self.assertTrue(fits(read, text[begin:99049], path))
             self.assertEqual(path_cost(path, costs), cost)
         read = random_text(source, 1000)

@@ -34,6 +34,17 @@ class PackageTest(unittest.TestCase):
                 names = {node.id for node in ast.walk(tree) if isinstance(node, ast.Name)}
                 self.assertEqual(names & FORBIDDEN_NAMES, set())
 
+    def test_sizes_and_characters(self):
+        for source in SOURCES:
+            text = source.read_text(encoding="utf-8")
+            with self.subTest(source=source.name):
+                lines = text.split("\n")
+                self.assertLess(len(lines), 400)
+                self.assertEqual([line for line in lines if len(line) > 120], [])
+                self.assertEqual([line for line in lines if not all(" " <= each <= "~" for each in line)], [])
+                functions = [node for node in ast.walk(ast.parse(text)) if isinstance(node, ast.FunctionDef)]
+                self.assertEqual([each.name for each in functions if each.end_lineno - each.lineno > 39], [])
+
     def test_readme(self):
         failed, tried = doctest.testfile(str(TOP / "README.md"), module_relative=False, encoding="utf-8")
         self.assertGreater(tried, 0)

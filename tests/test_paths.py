@@ -74,16 +74,16 @@ class FitsTest(unittest.TestCase):
             ("A", "A", "=="), ("A", "A", "=X"), ("A", "A", "=I"), ("A", "A", "=D"), ("A", "A", ""),
             ("AC", "AC", "="), ("AC", "AC", "==="), ("A", "C", "XX"),
             # Steps over the end of the read only, or of the text only.
-            ("A", "AC", "=="), ("A", "AC", "=X"), ("AC", "A", "=="), ("AC", "A", "=X"), ("A", "A", "II"), ("A", "A", "DD"),
-            ("A", "A", "IDI"), ("A", "A", "IDD"),
+            ("A", "AC", "=="), ("A", "AC", "=X"), ("AC", "A", "=="), ("AC", "A", "=X"),
+            ("A", "A", "II"), ("A", "A", "DD"), ("A", "A", "IDI"), ("A", "A", "IDD"),
             # What is left over.
             ("AC", "A", "="), ("A", "AC", "="), ("A", "", ""), ("", "A", ""), ("A", "A", "I"), ("A", "A", "D"),
             # Other letters, unknown ones, and agreeing ones.
             ("A", "C", "="), ("N", "N", "="), ("A", "N", "="), ("N", "A", "="), ("A", "A", "X"), ("AC", "AC", "=X"),
             # Characters that are no steps.
             ("A", "A", "M"), ("A", "A", "i"), ("A", "A", "1="), ("A", "A", "= "), ("A", "A", " "), ("A", "A", "A"),
-            ("", "", " "), ("", "", "\n"), ("", "", "\0"), ("A", "A", "\u2550"), ("A", "A", "\ud800"), ("A", "A", "\U0001f600"),
-            ("A", "C", "x"), ("A", "", "i"), ("", "A", "d"), ("A", "A", "=="), ("A", "A", "\uff1d"),
+            ("A", "C", "x"), ("A", "", "i"), ("", "A", "d"), ("", "", " "), ("", "", "\n"), ("", "", "\0"),
+            ("A", "A", "\u2550"), ("A", "A", "\ud800"), ("A", "A", "\U0001f600"), ("A", "A", "\uff1d"),
         ]:
             self.check(read, text, path, False)
 
@@ -141,8 +141,8 @@ class CutTest(unittest.TestCase):
 class InterfaceTest(unittest.TestCase):
     def test_names_and_arguments(self):
         for function, arguments in [
-            (path_cost, ["path", "costs"]), (fits, ["read", "text", "path"]), (cut, ["path"]), (joined_path, ["cut_path"]),
-            (best_alignment, ["read", "text", "end", "costs"]),
+            (path_cost, ["path", "costs"]), (fits, ["read", "text", "path"]), (cut, ["path"]),
+            (joined_path, ["cut_path"]), (best_alignment, ["read", "text", "end", "costs"]),
         ]:
             self.assertEqual(function.__module__, paths.__name__)
             self.assertEqual(list(inspect.signature(function).parameters), arguments)
