@@ -2,7 +2,7 @@
 
 from homereads.hits import hits
 from homereads.letters import turned
-from homereads.paths import best_alignment, cut
+from homereads.paths import best_alignments, cut
 
 
 def map_reads(index, reads, k, costs, *, batch=100):
@@ -40,7 +40,23 @@ def _aligned_hits(index, text, k, costs):
     """Return the list of the parts of the records of a read behind its name, for all its hits."""
     letters = (text, turned(text))
     found = []
-    for reference, strand, end, changes in hits(index, text, k):
-        begin, path, cost = best_alignment(letters[strand], index.references[reference][1], end, costs)
-        found.append((reference, strand, begin, end, changes, cost, cut(path)))
+    # Neighbouring ends have most of their tables in common. With more ends than letters, the tables would get large.
+    for run in _neighbouring_hits(hits(index, text, k), len(text)):
+        reference, strand, low, _ = run[0]
+        high = run[-1][2]
+        alignments = best_alignments(letters[strand], index.references[reference][1], low, high, costs)
+        for (_, _, end, changes), (begin, path, cost) in zip(run, alignments):
+            found.append((reference, strand, begin, end, changes, cost, cut(path)))
     return found
+
+
+def _neighbouring_hits(found, most):
+    """Return the hits, in their order, in lists of at most so many whose ends follow one another."""
+    runs = []
+    for hit in found:
+        reference, strand, end, _ = hit
+        if runs and len(runs[-1]) < most and runs[-1][-1][:3] == (reference, strand, end - 1):
+            runs[-1].append(hit)
+        else:
+            runs.append([hit])
+    return runs

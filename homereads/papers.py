@@ -6,8 +6,8 @@ from homereads.letters import agree
 
 def paper(read, text, end, costs):
     """Return a paper that holds and shows the cost of a best alignment of a read at an end of a text."""
-    band = exact_band(read, text, end, costs)
-    return band.table(0), band.table(1), band.table(2)
+    band = exact_band(read, text, end, end, costs)
+    return band.table(0, end), band.table(1, end), band.table(2, end)
 
 
 def shown(read, text, end, costs, paper):

@@ -51,13 +51,13 @@ def joined_path(cut_path):
 
 def best_alignment(read, text, end, costs):
     """Return a best alignment of a read at an end of a text, a tuple (begin, path, cost)."""
-    _, start, each = costs
-    band = exact_band(read, text, end, costs)
-    cost = band.cost()
-    if cost == start + len(read) * each:
-        return end, "I" * len(read), cost
-    begin, path = _path_in_band(band, read, text, end, costs)
-    return begin, path, cost
+    return best_alignments(read, text, end, end, costs)[0]
+
+
+def best_alignments(read, text, low, high, costs):
+    """Return the list of a best alignment for each end from low to high."""
+    band = exact_band(read, text, low, high, costs)
+    return [_alignment_in_band(band, read, text, end, costs) for end in range(low, high + 1)]
 
 
 def _runs(path):
@@ -76,6 +76,16 @@ def _pair_step(first, second):
     return "=" if agree(first, second) else "X"
 
 
+def _alignment_in_band(band, read, text, end, costs):
+    """Return a best alignment at an end, by tables that show its cost."""
+    _, start, each = costs
+    cost = band.cost(end)
+    if cost == start + len(read) * each:
+        return end, "I" * len(read), cost
+    begin, path = _path_in_band(band, read, text, end, costs)
+    return begin, path, cost
+
+
 def _path_in_band(band, read, text, end, costs):
     """Return the begin and the path of an alignment in the band that costs what its tables show."""
     _, start, each = costs
@@ -84,7 +94,7 @@ def _path_in_band(band, read, text, end, costs):
     j = end
     steps = []
     # What P and Q have to be at the cell, if the path comes from there at the least cost. If neither is, it is R.
-    wanted = (band.cost(), band.cost())
+    wanted = (band.cost(end), band.cost(end))
     while i > 0 and j > 0:
         pair, out_of_read, out_of_text = band.cell(i, j)
         if pair == wanted[0]:

@@ -4,7 +4,7 @@ import itertools
 import random
 import unittest
 
-from homereads.paths import best_alignment, fits, path_cost
+from homereads.paths import best_alignment, best_alignments, fits, path_cost
 
 from plain import random_text
 from plain_changes import (
@@ -99,6 +99,15 @@ class BestAlignmentTest(unittest.TestCase):
             read, text, _ = drawn_case(source, 12)
             for end in range(len(text) + 1):
                 self.check(read, text, end, costs, least_cost(read, text, end, costs))
+
+    def test_several_ends_at_once(self):
+        source = random.Random(72)
+        for at in range(400):
+            read, text, _ = drawn_case(source, source.choice([5, 12, 30]))
+            low, high = sorted(source.choices(range(len(text) + 1), k=2))
+            costs = COSTS[at % len(COSTS)]
+            expected = [best_alignment(read, text, end, costs) for end in range(low, high + 1)]
+            self.assertEqual(best_alignments(read, text, low, high, costs), expected, (read, text, low, high, costs))
 
     def test_end_zero(self):
         for costs in COSTS:

@@ -9,7 +9,7 @@ from homereads import mapping
 from homereads.hits import hits
 from homereads.index import Index
 from homereads.mapping import map_reads, read_record, write_record
-from homereads.paths import fits, joined_path, path_cost
+from homereads.paths import best_alignment, fits, joined_path, path_cost
 from homereads.storing import read_index, write_index
 
 from plain import lists_of_references, random_text
@@ -150,6 +150,25 @@ class MapReadsTest(unittest.TestCase):
         records = map_reads(index, named([read, plain_turned(read)]), 4, COSTS)
         self.assertEqual([(name, strand, begin, end, changes, cost) for name, _, strand, begin, end, changes, cost, _
                           in records if changes == 3], [("r0", 0, 1000, 2003, 3, 9), ("r1", 1, 1000, 2003, 3, 9)])
+
+    def test_most_changes(self):
+        """A read of 1000 letters with 50 changes has many hits side by side."""
+        source = random.Random(97)
+        text = random_text(source, 3000)
+        index = Index([("a", text)])
+        read = text[1000:1400] + "N" + text[1401:1700] + text[1705:2005]
+        records = map_reads(index, named([read]), 50, COSTS)
+        self.assertEqual([(record[4], record[5]) for record in records], [hit[2:] for hit in hits(index, read, 50)])
+        self.assertEqual([record[3:] for record in records if record[4] == 2005],
+                         [(1000, 2005, 6, 15, "400=1X299=5D300=")])
+        self.assertGreater(len(records), 80)
+        for _, _, _, begin, end, _, cost, cut_path in records:
+            self.assertTrue(fits(read, text[begin:end], joined_path(cut_path)))
+            self.assertEqual(path_cost(joined_path(cut_path), COSTS), cost)
+            # The last letters before or behind the end can be left out, and so can those of the read.
+            self.assertLessEqual(cost, 15 + (0 if end == 2005 else 6 + abs(end - 2005)))
+        for record in records[::20]:
+            self.assertEqual(best_alignment(read, text, record[4], COSTS)[2], record[6])
 
 
 class RecordTest(unittest.TestCase):
