@@ -86,6 +86,23 @@ class BestAlignmentTest(unittest.TestCase):
             costs = COSTS[at % len(COSTS)]
             self.check(read, text, end, costs, least_cost(read, text, end, costs))
 
+    def test_repeated_beginnings(self):
+        """Where a read begins with the same letters again and again, it fits within a run of `D`, too."""
+        self.check("TATATCCATCC", "GTATATCTCCATCC", 14, (9, 3, 1), 5)
+        self.check("AGAAGAACAAGGTA", "ACAGAAGAAGCCACAAGGTA", 20, (9, 3, 1), 7)
+        self.check("CACACACAAACGGCCCT", "CACACACAAAAAAACGGCCCT", 21, (4, 2, 1), 6)
+        self.check("CACACACTAAA", "GCACACACAAATAAA", 15, (20, 1, 2), 7)
+        source = random.Random(73)
+        for at in range(600):
+            letters = source.choice(["AC", "ACG", "AAC"])
+            first = random_text(source, source.randint(1, 3), letters) * source.randint(1, 4)
+            second = random_text(source, source.randint(4, 9))
+            between = random_text(source, source.randint(1, 4), letters)
+            texts = (first + second, first + between + second)
+            costs = COSTS[at % len(COSTS)]
+            for read, text in (texts, texts[::-1]):
+                self.check(read, text, len(text), costs, least_cost(read, text, len(text), costs))
+
     def test_drawn_costs(self):
         source = random.Random(66)
         for _ in range(500):
